@@ -1,0 +1,1 @@
+"""Quotatree: a tree of houses that share wares."""
