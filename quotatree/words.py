@@ -15,3 +15,7 @@ def is_name(thing):
     if len(thing) < 1 or len(thing) > LONGEST_NAME:
         return False
     return all([sign in LETTERS for sign in thing])
+
+
+def is_whole_from(thing, least, most):
+    return is_whole(thing) and least <= thing <= most

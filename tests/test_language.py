@@ -21,6 +21,11 @@ BUILT_IN = (
     "ArithmeticError OverflowError RuntimeError NotImplementedError AttributeError StopIteration"
 ).split()
 METHODS = ("__init__", "__eq__", "__repr__", "__str__", "__len__")
+PYTHONS_METHODS = (
+    "append clear copy count endswith extend find get index insert isalnum isalpha isdigit islower isspace isupper "
+    "items join keys ljust lower lstrip partition pop remove replace reverse rfind rjust rpartition rsplit rstrip "
+    "setdefault split splitlines startswith strip update upper values zfill bit_length"
+).split()
 WORDS = re.compile(
     r"\b(type|typing|typing_extensions|enum|Enum|IntEnum|StrEnum|Flag|IntFlag|Generic|Protocol|ABC|ABCMeta"
     r"|namedtuple|NamedTuple|TypedDict|TYPE_CHECKING|abstractmethod)\b|dataclass|overload|contextmanager"
@@ -111,6 +116,87 @@ def faults(source):
     return found
 
 
+def methods_of(node):
+    return [part.name for part in node.body if isinstance(part, ast.FunctionDef)]
+
+
+def classes_of(trees):
+    return [node for tree in trees for node in ast.walk(tree) if isinstance(node, ast.ClassDef)]
+
+
+def own_names(trees):
+    """The methods, and the values given to objects, of all classes of the package."""
+    methods = {name for node in classes_of(trees) for name in methods_of(node)}
+    values = {
+        node.attr for tree in trees for node in ast.walk(tree)
+        if isinstance(node, ast.Attribute) and isinstance(node.ctx, ast.Store)
+    }
+    return methods, values
+
+
+def faults_of_locals(tree):
+    """L15: no parameter and no local is called like a class or an import of its file."""
+    taken = {node.name for node in tree.body if isinstance(node, ast.ClassDef)}
+    for node in tree.body:
+        if isinstance(node, ast.ImportFrom):
+            taken |= {alias.asname or alias.name for alias in node.names}
+    bound = {node.id for node in ast.walk(tree) if isinstance(node, ast.Name) and isinstance(node.ctx, ast.Store)}
+    bound |= {node.arg for node in ast.walk(tree) if isinstance(node, ast.arg)}
+    return [f"L15 {name}" for name in sorted(taken & bound)]
+
+
+def faults_of_is(tree):
+    found = []
+    for node in ast.walk(tree):
+        if isinstance(node, ast.Compare) and any(isinstance(sign, (ast.Is, ast.IsNot)) for sign in node.ops):
+            last = node.comparators[-1]
+            if not isinstance(last, ast.Constant) or not any(last.value is one for one in (None, True, False)):
+                found.append(f"L20 is in line {node.lineno}")
+    return found
+
+
+def faults_of_calls(tree, methods):
+    found = []
+    for node in ast.walk(tree):
+        if isinstance(node, ast.Call) and isinstance(node.func, ast.Attribute):
+            name = node.func.attr
+            if name not in PYTHONS_METHODS and name not in methods:
+                found.append(f"L25 {name} in line {node.lineno}")
+    return found
+
+
+def imports_of(tree):
+    return {node.module for node in ast.walk(tree) if isinstance(node, ast.ImportFrom)}
+
+
+def faults_of_imports(trees):
+    """L16: each name comes from the file that defines it, and no two files draw from one another."""
+    found = []
+    for name, tree in trees.items():
+        for node in tree.body:
+            if isinstance(node, ast.ImportFrom):
+                source = trees.get(node.module)
+                defined = {getattr(part, "name", None) for part in source.body} if source else set()
+                found += [f"L16 {name}: {alias.name}" for alias in node.names if alias.name not in defined]
+    left = {name: imports_of(tree) for name, tree in trees.items()}
+    while any(not drawn & set(left) for drawn in left.values()):
+        left = {name: drawn for name, drawn in left.items() if drawn & set(left)}
+    return found + [f"L16 {name} draws from itself" for name in sorted(left)]
+
+
+def faults_together(trees):
+    methods, values = own_names(trees.values())
+    pythons = {name for kind in (str, int, list, dict, set, bytes, tuple) for name in dir(kind)}
+    found = [f"L18 {name} is a method and a value" for name in sorted(methods & values)]
+    found += [f"L26 {name}" for name in sorted((methods | values) & pythons - set(METHODS))]
+    for tree in trees.values():
+        found += faults_of_locals(tree) + faults_of_is(tree) + faults_of_calls(tree, methods | set(METHODS))
+    for node in classes_of(trees.values()):
+        if len(set(methods_of(node))) != len(methods_of(node)):
+            found.append(f"L18 a method twice in {node.name}")
+    return found + faults_of_imports(trees)
+
+
 class Language(unittest.TestCase):
     def test_nothing_but_plain_python_files_in_the_package(self):
         names = sorted(path.name for path in PACKAGE.iterdir() if path.name != "__pycache__")
@@ -134,6 +220,25 @@ class Language(unittest.TestCase):
         ):
             with self.subTest(source[:40]):
                 self.assertNotEqual(faults(source), [])
+
+    def test_the_files_together_keep_to_the_rules(self):
+        paths = sorted(PACKAGE.glob("*.py"))
+        trees = {f"quotatree.{path.stem}": ast.parse(path.read_text(encoding="utf-8")) for path in paths}
+        self.assertEqual(faults_together(trees), [])
+
+    def test_files_that_break_the_rules_together_are_found(self):
+        for one, other in (
+            ("class A:\n    def use(self):\n        pass", "def f(x):\n    x.use = 1"),
+            ("class A:\n    def pop(self):\n        pass", ""), ("def f(x):\n    x.keys = 1", ""),
+            ("from quotatree.b import f\ndef g(f):\n    pass", "def f():\n    pass"),
+            ("class A:\n    pass\ndef f():\n    A = 1", ""), ("def f(x, y):\n    return x is y", ""),
+            ("def f(x):\n    x.sort()", ""), ("from quotatree.b import f", "def g():\n    pass"),
+            ("from quotatree.b import f\ndef g():\n    pass", "from quotatree.a import g\ndef f():\n    pass"),
+            ("class A:\n    def f(self):\n        pass\n    def f(self):\n        pass", ""),
+        ):
+            with self.subTest(one=one, other=other):
+                trees = {"quotatree.a": ast.parse(one), "quotatree.b": ast.parse(other)}
+                self.assertNotEqual(faults_together(trees), [])
 
 
 if __name__ == "__main__":
