@@ -1,5 +1,7 @@
 """Holds: promised ones and loans. What changes is a new object in the place of the old one."""
 
+from quotatree.amounts import total_of
+
 
 class Hold:
     def __init__(self, number, house, amounts, rank, turns):
@@ -35,3 +37,12 @@ def made(number, house, amounts, rank, turns, sure):
 
 def changed(hold, amounts, turns, sure):
     return made(hold.number, hold.house, amounts, hold.rank, turns, sure)
+
+
+def holds_beneath(tree, holds, house):
+    names = tree.beneath(house)
+    return [hold for hold in holds if hold.house in names]
+
+
+def held_by(holds):
+    return total_of([hold.amounts for hold in holds])

@@ -1,8 +1,8 @@
 """The store: the holds of the houses of one tree, by their numbers."""
 
-from quotatree.amounts import added, beyond, total_of, within
+from quotatree.amounts import added, beyond, within
 from quotatree.errors import NoHold, NoPromise
-from quotatree.holds import changed, made
+from quotatree.holds import changed, held_by, holds_beneath, made
 from quotatree.words import is_whole
 
 
@@ -39,15 +39,14 @@ class Store:
         holds = [self.holds[number] for number in self.numbers()]
         if house is None:
             return holds
-        names = self.tree.beneath(house)
-        return [hold for hold in holds if hold.house in names]
+        return holds_beneath(self.tree, holds, house)
 
     def at_house(self, house):
         self.tree.check_house(house)
         return [hold for hold in self.under() if hold.house == house]
 
     def own(self, house):
-        return total_of([hold.amounts for hold in self.at_house(house)])
+        return held_by(self.at_house(house))
 
     def promised(self, house):
         return self.promised_but(house, None)
@@ -56,12 +55,12 @@ class Store:
         holds = [hold for hold in self.at_house(house) if hold.is_sure()]
         if self.keeps(but):
             holds = [hold for hold in holds if hold.number != but]
-        return total_of([hold.amounts for hold in holds])
+        return held_by(holds)
 
     def use(self, house):
         # None means all houses to under, but is no house here.
         self.tree.check_house(house)
-        return total_of([hold.amounts for hold in self.under(house)])
+        return held_by(self.under(house))
 
     def too_much(self, house, amounts, but):
         return beyond(added(self.promised_but(house, but), amounts), self.tree.promise_of(house))
